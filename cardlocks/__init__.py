@@ -1,0 +1,1 @@
+"""Commutative locks for cards: deals, openings and audits with revealed keys."""

@@ -1,4 +1,4 @@
-"""Whole numbers modulo a prime."""
+"""Powers modulo a number, primes, coprime numbers and factorials."""
 
 
 def power(base, exponent, modulus):
@@ -22,3 +22,20 @@ def is_prime(number):
             return False
         divisor += 1
     return True
+
+
+def are_coprime(one, other):
+    greater = one
+    rest = other
+    while rest > 0:
+        remainder = greater % rest
+        greater = rest
+        rest = remainder
+    return greater == 1
+
+
+def factorial(number):
+    product = 1
+    for factor in range(2, number + 1):
+        product = product * factor
+    return product

@@ -16,10 +16,12 @@ def is_table_prime(number):
     return is_prime(number) and is_prime(key_modulus(number))
 
 
-def is_card(number, prime):
-    if number < 2 or number > prime - 1:
-        return False
+def is_square(number, prime):
     return power(number, key_modulus(prime), prime) == 1
+
+
+def is_card(number, prime):
+    return number >= 2 and number <= prime - 1 and is_square(number, prime)
 
 
 def is_key(number, prime):

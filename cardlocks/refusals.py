@@ -9,6 +9,10 @@ class WrongArgument(Exception):
     pass
 
 
+class NotInDeck(Exception):
+    pass
+
+
 class InvalidText(Exception):
 
     def __init__(self, code, offset):

@@ -10,6 +10,10 @@ class Table:
         self.players = players
 
 
+def keys_of(table):
+    return [key for name, key in table.players]
+
+
 def canonical_lines(table):
     prime = table.prime
     cards = " ".join([str(card) for card in table.deck])

@@ -2,6 +2,7 @@
 
 from cardlocks.locks import is_card, is_key, is_table_prime
 from cardlocks.refusals import InvalidText
+from cardlocks.rows import MOST_CARDS
 from cardlocks.scanning import END, NUMBER, SEMICOLON, WORD, tokens_of
 from cardlocks.tables import Table
 
@@ -12,7 +13,6 @@ WRONG_NUMBER = 4
 KEYWORDS = ("prime", "deck", "player", "key")
 
 FEWEST_CARDS = 2
-MOST_CARDS = 10
 MOST_PLAYERS = 4
 
 

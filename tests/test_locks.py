@@ -3,23 +3,7 @@
 import unittest
 
 from helper import (GREATEST, LEAST, PRIMES, SMALL, ask, ask_many, cards_of, check_lock, inverse_key, joint_key,
-                    load_table, lock, smallest_table, unlock)
-
-
-def keys_of(prime):
-    return list(range(1, (prime - 1) // 2))
-
-
-def not_cards(prime):
-    cards = cards_of(prime)
-    others = [number for number in range(-3, prime + 30) if number not in cards]
-    # numbers that a card is congruent to, too
-    return others + [cards[0] + prime, cards[0] - prime, LEAST, LEAST + 1, GREATEST - 1, GREATEST]
-
-
-def not_keys(prime):
-    q = (prime - 1) // 2
-    return [-q, 1 - q, -2, -1, 0, q, q + 1, 2 * q, prime, LEAST, LEAST + 1, GREATEST - 1, GREATEST]
+                    keys_of, load_table, lock, not_cards, not_keys, smallest_table, unlock)
 
 
 class LockCase(unittest.TestCase):
